@@ -1,0 +1,1 @@
+"""Telltight: how much names tell of one another, by plain rules, tables and coins."""
