@@ -97,3 +97,93 @@ def solved(rows, numbers):
                 factor = lines[k][place]
                 lines[k] = [x - factor * y for x, y in zip(lines[k], lines[place])]
     return [line[-1] for line in lines]
+
+
+# Point 11 and 12, read word by word over fractions.
+
+def own_keeps_given(given, fractions):
+    row, sign, number = given
+    found = own_value(row, fractions)
+    return found == number if sign == "=" else found >= number
+
+
+def own_keeps_all(n, givens, table):
+    numbers, below = table
+    if below < 1 or len(numbers) != 2 ** n - 1:
+        return False
+    fractions = [Fraction(number, below) for number in numbers]
+    return own_keeps_rules(n, fractions) and all(own_keeps_given(given, fractions) for given in givens)
+
+
+def own_are_weights(n, givens, weights):
+    rules = len(own_rules(n))
+    if len(weights) != rules + len(givens):
+        return False
+    if min(weights[:rules]) < 0:
+        return False
+    return all(weight >= 0 for weight, given in zip(weights[rules:], givens) if given[1] == ">")
+
+
+def own_come_to(n, givens, weights):
+    rows = own_rule_rows(n) + [given[0] for given in givens]
+    numbers = [0] * len(own_rules(n)) + [given[2] for given in givens]
+    row = [own_value([line[place] for line in rows], weights) for place in range(2 ** n - 1)]
+    return row, own_value(numbers, weights)
+
+
+def own_holds(n, givens, goal, found):
+    if found[0] == "least":
+        (top, bottom), table, times, weights = found[1:]
+        if bottom < 1 or times < 1 or not own_keeps_all(n, givens, table) or not own_are_weights(n, givens, weights):
+            return False
+        row, number = own_come_to(n, givens, weights)
+        at_table = Fraction(own_value(goal, table[0]), table[1])
+        return (at_table == Fraction(top, bottom) and row == [times * x for x in goal]
+                and Fraction(number, times) == Fraction(top, bottom))
+    if found[0] == "endless":
+        table, way = found[1:]
+        if not own_keeps_all(n, givens, table) or len(way) != 2 ** n - 1 or not own_keeps_rules(n, way):
+            return False
+        along = [(own_value(row, way), sign) for row, sign, number in givens]
+        return all(x == 0 or (sign == ">" and x > 0) for x, sign in along) and own_value(goal, way) < 0
+    weights = found[1]
+    if not own_are_weights(n, givens, weights):
+        return False
+    row, number = own_come_to(n, givens, weights)
+    return row == [0] * (2 ** n - 1) and number > 0
+
+
+def is_table(n, thing):
+    if type(thing) is not tuple or len(thing) != 2 or not is_whole_list(thing[0], 2 ** n - 1):
+        return False
+    return is_whole(thing[1]) and thing[1] >= 1 and common_divisor(thing[0] + [thing[1]]) == 1
+
+
+def is_told_form(n, givens, found):
+    """Whether the kinds are as the document tells them, fractions and tables in lowest terms."""
+    many = len(own_rules(n)) + len(givens)
+    if type(found) is not tuple:
+        return False
+    if found[0] == "least" and len(found) == 5:
+        value = found[1]
+        fine = type(value) is tuple and len(value) == 2 and is_whole(value[0]) and is_whole(value[1])
+        fine = fine and value[1] >= 1 and gcd(value[0], value[1]) == 1
+        return fine and is_table(n, found[2]) and is_whole(found[3]) and is_whole_list(found[4], many)
+    if found[0] == "endless" and len(found) == 3:
+        return is_table(n, found[1]) and is_whole_list(found[2], 2 ** n - 1)
+    return found[0] == "never" and len(found) == 2 and is_whole_list(found[1], many)
+
+
+def numbers_in(thing):
+    if is_whole(thing):
+        return [thing]
+    if isinstance(thing, (list, tuple)):
+        return [number for part in thing for number in numbers_in(part)]
+    return []
+
+
+def lists_in(thing):
+    found = [thing] if isinstance(thing, list) else []
+    if isinstance(thing, (list, tuple)):
+        found += [part for inner in thing for part in lists_in(inner)]
+    return found

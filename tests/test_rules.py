@@ -2,20 +2,12 @@ import random
 import unittest
 from math import lcm
 
-from reckoning import (groups, own_keeps_rules, own_rule_row, own_rule_rows, own_rules, own_value, solved)
+from asking import cone_table
+from reckoning import groups, own_keeps_rules, own_rule_row, own_rule_rows, own_rules, own_value, solved
 from telltight.rows import rest, shared, value
 from telltight.rules import keeps_rules, rule_row, rules
 
 FAR = 10 ** 40 - 1
-
-
-def cone_table(n, chance, most):
-    """A table that keeps the rules: a sum of ones that have 1 for each group that meets a given one."""
-    table = [0] * (2 ** n - 1)
-    for met in groups(n):
-        often = chance.randint(0, most)
-        table = [old + often * (1 if g & met else 0) for g, old in zip(groups(n), table)]
-    return table
 
 
 def table_that_breaks_one(n, place):
