@@ -33,6 +33,16 @@ def in_lowest_terms(numbers):
     return [number // divisor for number in numbers]
 
 
+def lowest_fraction(top, bottom):
+    numbers = in_lowest_terms([top, bottom])
+    return (numbers[0], numbers[1])
+
+
+def lowest_table(numbers, below):
+    found = in_lowest_terms(numbers + [below])
+    return (found[:-1], found[-1])
+
+
 def opening_sheet(n, givens, goal):
     lines = [row + [0] for row in rule_rows(n)]
     guarded = all_names(n) + len(lines)
@@ -94,8 +104,7 @@ def groups_in_column(n, sheet, column):
 
 
 def table_of_sheet(n, sheet):
-    numbers = in_lowest_terms(groups_in_column(n, sheet, -1) + [sheet.below])
-    return (numbers[:-1], numbers[-1])
+    return lowest_table(groups_in_column(n, sheet, -1), sheet.below)
 
 
 def way_along(n, sheet, column):
@@ -106,9 +115,9 @@ def way_along(n, sheet, column):
 
 
 def least_of_sheet(n, sheet, place):
-    fraction = in_lowest_terms([-sheet.lines[place][-1], sheet.below])
+    least = lowest_fraction(-sheet.lines[place][-1], sheet.below)
     weights = in_lowest_terms(weights_by_line(n, sheet, place) + [sheet.below])
-    return ("least", (fraction[0], fraction[1]), table_of_sheet(n, sheet), weights[-1], weights[:-1])
+    return ("least", least, table_of_sheet(n, sheet), weights[-1], weights[:-1])
 
 
 def answer(n, givens, goal):

@@ -159,19 +159,66 @@ def is_table(n, thing):
     return is_whole(thing[1]) and thing[1] >= 1 and common_divisor(thing[0] + [thing[1]]) == 1
 
 
+def is_fraction(thing):
+    """A tuple (top, bottom) in lowest terms, bottom from 1 on."""
+    if type(thing) is not tuple or len(thing) != 2 or not all(is_whole(number) for number in thing):
+        return False
+    return thing[1] >= 1 and gcd(thing[0], thing[1]) == 1
+
+
 def is_told_form(n, givens, found):
     """Whether the kinds are as the document tells them, fractions and tables in lowest terms."""
     many = len(own_rules(n)) + len(givens)
     if type(found) is not tuple:
         return False
     if found[0] == "least" and len(found) == 5:
-        value = found[1]
-        fine = type(value) is tuple and len(value) == 2 and is_whole(value[0]) and is_whole(value[1])
-        fine = fine and value[1] >= 1 and gcd(value[0], value[1]) == 1
-        return fine and is_table(n, found[2]) and is_whole(found[3]) and is_whole_list(found[4], many)
+        fine = is_fraction(found[1]) and is_table(n, found[2])
+        return fine and is_whole(found[3]) and is_whole_list(found[4], many)
     if found[0] == "endless" and len(found) == 3:
         return is_table(n, found[1]) and is_whole_list(found[2], 2 ** n - 1)
     return found[0] == "never" and len(found) == 2 and is_whole_list(found[1], many)
+
+
+# Points 13 and 14, likewise.
+
+def own_paper_holds(n, givens, row, number, paper):
+    if paper[0] == "never":
+        return own_holds(n, givens, row, paper)
+    word, times, weights = paper
+    if times < 1 or not own_are_weights(n, givens, weights):
+        return False
+    come_row, come_number = own_come_to(n, givens, weights)
+    return come_row == [times * x for x in row] and come_number >= times * number
+
+
+def own_follow_holds(n, givens, saying, found):
+    row, sign, number = saying
+    if not found[0]:
+        numbers, below = found[1]
+        if not own_keeps_all(n, givens, found[1]):
+            return False
+        return not own_keeps_given(saying, [Fraction(x, below) for x in numbers])
+    wanted = [(row, number)] if sign == ">" else [(row, number), ([-x for x in row], -number)]
+    if len(found[1]) != len(wanted):
+        return False
+    return all(own_paper_holds(n, givens, one, least, paper) for (one, least), paper in zip(wanted, found[1]))
+
+
+def is_told_paper(n, givens, paper):
+    many = len(own_rules(n)) + len(givens)
+    if type(paper) is not tuple or not paper or not is_whole_list(paper[-1], many):
+        return False
+    if paper[0] == "by":
+        return len(paper) == 3 and is_whole(paper[1])
+    return paper[0] == "never" and len(paper) == 2
+
+
+def is_told_follow(n, givens, found):
+    if type(found) is not tuple or len(found) != 2 or type(found[0]) is not bool:
+        return False
+    if found[0]:
+        return type(found[1]) is list and all(is_told_paper(n, givens, paper) for paper in found[1])
+    return is_table(n, found[1])
 
 
 def numbers_in(thing):
