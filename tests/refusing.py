@@ -1,4 +1,4 @@
-"""How the tests hold a refusal against point 6."""
+"""How the tests hold a refusal against what the document tells of it."""
 
 from telltight import errors
 
@@ -12,14 +12,22 @@ def bad_groups(n, nobody):
     return found if nobody else found + [0]
 
 
-def expect_refusal(case, name, word, thing, function, arguments):
+def expect_kind(case, name, function, arguments):
+    """The refusal of that name and of no other one; told is the error."""
     refusals = ("NoCount", "NoGroup", "NoTable", "TooMany", "NoText", "NoLine", "NoPlace", "NoHeap")
-    with case.assertRaises(ValueError, msg=(function, arguments)) as caught:
+    # What was handed in may be a text of many signs.
+    told = f"{function.__name__}{arguments}"[:300]
+    with case.assertRaises(ValueError, msg=told) as caught:
         function(*arguments)
     found = caught.exception
-    case.assertIsInstance(found, errors.TellError)
+    case.assertIsInstance(found, errors.TellError, told)
     for other in refusals:
-        case.assertEqual(isinstance(found, getattr(errors, other)), other == name, (arguments, found))
+        case.assertEqual(isinstance(found, getattr(errors, other)), other == name, told)
+    return found
+
+
+def expect_refusal(case, name, word, thing, function, arguments):
+    found = expect_kind(case, name, function, arguments)
     case.assertEqual(getattr(found, word), thing, arguments)
 
 
