@@ -1,20 +1,12 @@
 import copy
 import random
 import unittest
-from itertools import combinations
 
 from asking import cone_table
+from opening import all_openers, key_groups, openers_of_chance, own_opens
 from reckoning import (groups, is_told_form, is_whole_list, lists_in, names_of, own_holds, own_rest, own_shared,
                        own_unsure, own_value)
 from telltight.locks import lock_answer, lock_givens, lock_told, mattering
-
-
-def key_groups(n):
-    return [g for g in range(2 ** n) if 0 not in names_of(g)]
-
-
-def own_opens(openers, group):
-    return any(names_of(opener) <= names_of(group) for opener in openers)
 
 
 def own_mattering(n, openers):
@@ -42,25 +34,6 @@ def own_told(n, openers, table):
         shares = own_value(own_shared(n, 1, group, 0), table) if group else 0
         if shares != (table[0] if own_opens(openers, group) else 0):
             found.append(group)
-    return found
-
-
-def all_openers(n):
-    """Each choice of openers, nobody among them or not."""
-    for many in range(2 ** (n - 1) + 1):
-        for openers in combinations(key_groups(n), many):
-            yield list(openers)
-
-
-def openers_of_chance(seed, times):
-    """None to ten openers, in any order, some twice."""
-    chance = random.Random(seed)
-    found = []
-    for n in (2, 3, 4):
-        for many in range(11):
-            for _ in range(times):
-                choices = key_groups(n) if chance.randrange(4) == 0 else key_groups(n)[1:]
-                found.append((n, [chance.choice(choices) for _ in range(many)]))
     return found
 
 
