@@ -11,6 +11,8 @@ together in the same way.
 from telltight.rows import all_names
 from telltight.splits import names_in
 
+MOST_COINS = 40
+
 
 def views_of(heap, g):
     found = []
@@ -147,7 +149,7 @@ def beside(one, other):
 
 def taken(heap, times):
     found = (0, [[] for name in heap[1]])
-    for time in range(times):
+    for step in range(times):
         found = beside(found, heap)
     return found
 

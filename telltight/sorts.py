@@ -1,13 +1,11 @@
 """The sorts that tables of up to three names are sums of, and the heaps of such tables (points 24 to 27)."""
 
-from telltight.coins import beside, coin_table, taken
+from telltight.coins import MOST_COINS, beside, coin_table, taken
 from telltight.errors import NoTable, TooMany
 from telltight.musts import must_row
 from telltight.parts import parts_of
 from telltight.rows import all_names, value
 from telltight.rules import rule_row, rules
-
-MOST_COINS = 40
 
 
 def sorts(n):

@@ -1,6 +1,8 @@
-"""Told things with one number or list in them changed, for the lookers' tests."""
+"""Told things with one number, list or sign in them changed, for the tests of lookers and readers."""
 
 from reckoning import is_whole
+
+SIGNS = "".join(chr(k) for k in range(32, 127))
 
 
 def with_parts(found, change):
@@ -24,3 +26,12 @@ def other_lists(thing):
     if isinstance(thing, list):
         return [thing + [0], [0] + thing, thing[:-1], thing[1:], [], thing + [1], thing * 2]
     return []
+
+
+def with_a_sign_changed(text, signs):
+    """Each text with one sign put in, left out or exchanged."""
+    for place in range(len(text) + 1):
+        for sign in signs:
+            yield text[:place] + sign + text[place:]
+            yield text[:place] + sign + text[place + 1:]
+        yield text[:place] + text[place + 1:]

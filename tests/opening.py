@@ -3,6 +3,7 @@
 import random
 from itertools import combinations
 
+from heaps import own_knows
 from reckoning import names_of
 
 
@@ -12,6 +13,15 @@ def key_groups(n):
 
 def own_opens(openers, group):
     return any(names_of(opener) <= names_of(group) for opener in openers)
+
+
+def own_least(groups):
+    return sorted(g for g in groups if not any(names_of(h) < names_of(g) for h in groups))
+
+
+def own_opened(heap):
+    opening = [g for g in key_groups(len(heap[1])) if all(own_knows(heap, g, view) for view in heap[1][0])]
+    return own_least(opening)
 
 
 def all_openers(n):

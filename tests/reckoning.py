@@ -221,6 +221,21 @@ def is_told_follow(n, givens, found):
     return is_table(n, found[1])
 
 
+# Point 24.
+
+ODD = ("odd",)
+
+
+def own_sorts(n):
+    return [("coin", g) for g in groups(n)] + ([ODD] if n == 3 else [])
+
+
+def own_sort_table(n, sort):
+    if sort == ODD:
+        return [min(2, len(names_of(g))) for g in groups(n)]
+    return [1 if names_of(g) & names_of(sort[1]) else 0 for g in groups(n)]
+
+
 def numbers_in(thing):
     if is_whole(thing):
         return [thing]

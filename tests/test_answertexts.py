@@ -1,9 +1,10 @@
 import copy
 import random
-import re
 import unittest
 
 from asking import questions
+from changing import SIGNS, with_a_sign_changed
+from reading import own_read_answer, own_read_follow, same
 from refusing import expect_kind
 from telltight.answertexts import read_answer, read_follow, show_answer, show_follow
 from telltight.errors import NoText
@@ -12,54 +13,6 @@ from telltight.judge import holds
 from telltight.questions import answer
 
 LONG = 10 ** 2000 - 1
-NUMBER = "(?:0|-?[1-9][0-9]{0,1999})"
-NUMBERS = f"(?:-|{NUMBER}(?: {NUMBER})*)"
-TABLE = f"table ({NUMBERS}) / ({NUMBER})"
-SIGNS = "".join(chr(k) for k in range(32, 127))
-PAPER = f"(?:by {NUMBER}: {NUMBERS}|never {NUMBERS})"
-
-
-def numbers_of(text):
-    return [] if text == "-" else [int(word) for word in text.split(" ")]
-
-
-def own_read_answer(text):
-    """The answer that a text writes, by its whole form; None where it writes none."""
-    least = re.fullmatch(f"least ({NUMBER}) / ({NUMBER}); {TABLE}; times ({NUMBER}); weights ({NUMBERS})", text)
-    if least:
-        top, bottom, numbers, below, times, weights = least.groups()
-        return ("least", (int(top), int(bottom)), (numbers_of(numbers), int(below)), int(times), numbers_of(weights))
-    endless = re.fullmatch(f"endless; {TABLE}; way ({NUMBERS})", text)
-    if endless:
-        return ("endless", (numbers_of(endless[1]), int(endless[2])), numbers_of(endless[3]))
-    never = re.fullmatch(f"never; weights ({NUMBERS})", text)
-    return ("never", numbers_of(never[1])) if never else None
-
-
-def own_read_follow(text):
-    table = re.fullmatch(f"no; {TABLE}", text)
-    if table:
-        return (False, (numbers_of(table[1]), int(table[2])))
-    if not re.fullmatch(f"yes(?:; {PAPER})*", text):
-        return None
-    papers = []
-    for piece in text.split("; ")[1:]:
-        if piece[0] == "n":
-            papers.append(("never", numbers_of(piece[6:])))
-        else:
-            times, numbers = piece[3:].split(": ")
-            papers.append(("by", int(times), numbers_of(numbers)))
-    return (True, papers)
-
-
-def same(one, other):
-    """Whether both are the same, their kinds too."""
-    if type(one) is not type(other):
-        return False
-    if isinstance(one, (list, tuple)):
-        return len(one) == len(other) and all(same(x, y) for x, y in zip(one, other))
-    return one == other
-
 
 ANSWERS = (
     (("least", (3, 1), ([3, 2, 3], 1), 1, [0, 1, 0, 1, 0]),
@@ -114,15 +67,6 @@ def random_follow(chance):
         papers.append(chance.choice((("by", random_number(chance), random_numbers(chance)),
                                      ("never", random_numbers(chance)))))
     return (True, papers)
-
-
-def with_a_sign_changed(text, signs):
-    """Each text with one sign put in, left out or exchanged."""
-    for place in range(len(text) + 1):
-        for sign in signs:
-            yield text[:place] + sign + text[place:]
-            yield text[:place] + sign + text[place + 1:]
-        yield text[:place] + text[place + 1:]
 
 
 class TextsCase(unittest.TestCase):

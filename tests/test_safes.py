@@ -4,15 +4,11 @@ from itertools import combinations
 
 from heaps import heaps, is_heap, is_view, own_coin_table, own_knows, own_views, random_heap
 from opening import all_openers as openers_of_any_kind
-from opening import key_groups, openers_of_chance, own_opens
+from opening import key_groups, openers_of_chance, own_least, own_opened, own_opens
 from owning import expect_own
 from reckoning import is_whole_list, names_of, own_rest, own_shared, own_value
 from telltight.locks import lock_givens, lock_told
 from telltight.safes import all_openers, both_safes, least_openers, opened_by, safe_of, turned_openers
-
-
-def own_least(groups):
-    return sorted(g for g in groups if not any(names_of(h) < names_of(g) for h in groups))
 
 
 def own_least_openers(n, openers):
@@ -22,11 +18,6 @@ def own_least_openers(n, openers):
 def own_turned(n, openers):
     keys = 2 ** n - 2
     return own_least([g for g in key_groups(n) if not own_opens(openers, keys - g)])
-
-
-def own_opened(heap):
-    opening = [g for g in key_groups(len(heap[1])) if all(own_knows(heap, g, view) for view in heap[1][0])]
-    return own_least(opening)
 
 
 def own_safe(n, openers):

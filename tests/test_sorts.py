@@ -6,24 +6,12 @@ from itertools import product
 from asking import FAR, cone_table, questions
 from heaps import is_heap, own_coin_table
 from owning import expect_own
-from reckoning import (groups, is_whole_list, names_of, own_keeps_rules, own_rest, own_rule_row, own_rules, own_shared,
-                       own_value)
+from reckoning import (ODD, groups, is_whole_list, names_of, own_keeps_rules, own_rest, own_rule_row, own_rules,
+                       own_shared, own_sort_table, own_sorts, own_value)
 from refusing import expect_kind
 from telltight.coins import coin_table
 from telltight.follows import follows
 from telltight.sorts import by_sorts, heap_of, sort_counts, sort_heap, sort_table, sorts
-
-ODD = ("odd",)
-
-
-def own_sorts(n):
-    return [("coin", g) for g in groups(n)] + ([ODD] if n == 3 else [])
-
-
-def own_sort_table(n, sort):
-    if sort == ODD:
-        return [min(2, len(names_of(g))) for g in groups(n)]
-    return [1 if names_of(g) & names_of(sort[1]) else 0 for g in groups(n)]
 
 
 def own_sum(n, counts):
